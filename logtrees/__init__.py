@@ -1,0 +1,1 @@
+"""Logtrees: the shape of trees over logs that only grow."""

@@ -1,0 +1,59 @@
+"""What makes an argument valid, for all modules that take it."""
+
+from logtrees.errors import InvalidEntry, InvalidNode, InvalidNumber, InvalidSize, InvalidSpan
+
+MOST_ENTRIES = 10 ** 30
+
+
+def is_whole(value):
+    """Tell whether any value is an integer; True and False are none."""
+    return isinstance(value, int) and not isinstance(value, bool)
+
+
+def is_between(value, low, high):
+    """Tell whether any value is an integer from low to high."""
+    return is_whole(value) and low <= value <= high
+
+
+def is_tree_node(size, value):
+    """Tell whether any value is a node of the tree of a valid size."""
+    if not isinstance(value, tuple) or len(value) != 2:
+        return False
+    begin, end = value
+    if not is_between(begin, 0, size - 1) or not is_between(end, begin + 1, size):
+        return False
+    # Nodes of one height begin at the multiples of the same power of two. Only the log's end can cut one short.
+    room = 1 << (end - begin - 1).bit_length()
+    return begin % room == 0 and (end - begin == room or end == size)
+
+
+def check_size(size):
+    """Raise InvalidSize unless the value is a size."""
+    if not is_between(size, 1, MOST_ENTRIES):
+        raise InvalidSize("a size is an integer from 1 to 10 ** 30")
+
+
+def check_entry(size, entry):
+    """Raise InvalidEntry unless the value is an entry of a log with a valid size."""
+    if not is_between(entry, 0, size - 1):
+        raise InvalidEntry("an entry is an integer from 0, less than the size")
+
+
+def check_node(size, node):
+    """Raise InvalidNode unless the value is a node of the tree of a valid size."""
+    if not is_tree_node(size, node):
+        raise InvalidNode("a node is a tuple (a, b) that the tree of the size has")
+
+
+def check_span(size, begin, end):
+    """Raise InvalidSpan unless the values begin and end a stretch of entries of a log with a valid size."""
+    if not is_between(begin, 0, size - 1):
+        raise InvalidSpan("a begin is an integer from 0, less than the size")
+    if not is_between(end, begin + 1, size):
+        raise InvalidSpan("an end is an integer greater than the begin, at most the size")
+
+
+def check_number(number):
+    """Raise InvalidNumber unless the value is an integer."""
+    if not is_whole(number):
+        raise InvalidNumber("a number is an integer")
