@@ -1,8 +1,9 @@
 """What makes an argument valid, for all modules that take it."""
 
-from logtrees.errors import InvalidEntry, InvalidNode, InvalidNumber, InvalidSize, InvalidSpan
+from logtrees.errors import InvalidEntry, InvalidNode, InvalidNumber, InvalidSize, InvalidSpan, InvalidSpans
 
 MOST_ENTRIES = 10 ** 30
+MOST_SPANS = 12
 
 
 def is_whole(value):
@@ -25,6 +26,19 @@ def is_tree_node(size, value):
     # Nodes of one height begin at the multiples of the same power of two. Only the log's end can cut one short.
     room = 1 << (end - begin - 1).bit_length()
     return begin % room == 0 and (end - begin == room or end == size)
+
+
+def is_list_of(value, least, most):
+    """Tell whether any value is a list of so many items."""
+    return isinstance(value, list) and least <= len(value) <= most
+
+
+def is_span_from(size, value, least):
+    """Tell whether any value is a tuple (first, end) of a stretch in a log that begins at an entry or behind it."""
+    if not isinstance(value, tuple) or len(value) != 2:
+        return False
+    first, end = value
+    return is_between(first, least, size - 1) and is_between(end, first + 1, size)
 
 
 def check_size(size):
@@ -51,6 +65,23 @@ def check_span(size, begin, end):
         raise InvalidSpan("a begin is an integer from 0, less than the size")
     if not is_between(end, begin + 1, size):
         raise InvalidSpan("an end is an integer greater than the begin, at most the size")
+
+
+def check_spans(size, spans):
+    """Raise InvalidSpans unless the value is a list of spans of a log with a valid size."""
+    if not is_list_of(spans, 1, MOST_SPANS):
+        raise InvalidSpans(None)
+    behind = 0
+    for item, span in enumerate(spans):
+        if not is_span_from(size, span, behind):
+            raise InvalidSpans(item)
+        behind = span[1]
+
+
+def check_older(size, older):
+    """Raise InvalidSize unless the value is a size that a log with a valid size has had, the present one included."""
+    if not is_between(older, 1, size):
+        raise InvalidSize("an older size is an integer from 1, at most the size")
 
 
 def check_number(number):

@@ -8,6 +8,29 @@ def power_within(number):
     return 1 << (number.bit_length() - 1)
 
 
+def _first_full(begin, end):
+    """Return the greatest full node that begins where a stretch begins and lies within it."""
+    room = power_within(end - begin)
+    # Every power of two divides 0, so there the end alone limits the node.
+    if begin > 0:
+        room = min(room, begin & -begin)
+    return (begin, begin + room)
+
+
+def nodes_within(size, begin, end):
+    """List the greatest nodes of tree(size) within a stretch of its entries, ascending; none if it is empty."""
+    found = []
+    while begin < end:
+        # Only an edge can be greater than the full node, and an edge ends where the log does.
+        if is_tree_node(size, (begin, end)):
+            node = (begin, end)
+        else:
+            node = _first_full(begin, end)
+        found.append(node)
+        begin = node[1]
+    return found
+
+
 def peaks(size):
     """List the nodes that one gets by cutting the entries into the powers of two of the size, the greatest first."""
     check_size(size)

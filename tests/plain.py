@@ -1,4 +1,4 @@
-"""What the tests compare the program with: points 5 to 7 of the document, word by word, and lists of values."""
+"""What the tests compare the program with: points 5 to 8 of the document, word by word, and lists of values."""
 
 from functools import lru_cache
 
@@ -118,6 +118,29 @@ def plain_totals(width, known):
         low, high = [plain_totals(b - a, known) for a, b in plain_halves((0, width))]
         known[width] = (low[0] + high[0] + width, min(low[1], high[1]) + 1, max(low[2], high[2]) + 1)
     return known[width]
+
+
+def plain_known(size, nodes):
+    """Return the set of all nodes of tree(size) that are known when just these are, by the words of point 8."""
+    known = set()
+    # No node is wider than its parent, so both halves have been looked at before a node is.
+    for node in sorted(plain_tree(size), key=lambda node: node[1] - node[0]):
+        if node in nodes or node[1] - node[0] > 1 and all(half in known for half in plain_halves(node)):
+            known.add(node)
+    return known
+
+
+def plain_parts(root, within, beside):
+    """List the greatest nodes below a root for which within(a, b) holds, and skip those for which beside(a, b) does."""
+    found, open_nodes = [], [root]
+    while open_nodes:
+        node = open_nodes.pop()
+        if within(*node):
+            found.append(node)
+        elif not beside(*node):
+            low, high = plain_halves(node)
+            open_nodes += [high, low]
+    return found
 
 
 def marked_entries(size):

@@ -35,6 +35,7 @@ class ErrorsTest(unittest.TestCase):
     def test_no_other_subclass(self):
         # All modules that could define one more are loaded first.
         import logtrees.checks, logtrees.depths, logtrees.shapes  # noqa: E401,F401
+        import logtrees.compact, logtrees.needs, logtrees.older  # noqa: E401,F401
         names = sorted(kind.__name__ for kind in errors.LogError.__subclasses__())
         self.assertEqual(names, sorted([*FIELDS, *OTHERS]))
 
