@@ -1,9 +1,13 @@
 """What makes an argument valid, for all modules that take it."""
 
-from logtrees.errors import InvalidEntry, InvalidNode, InvalidNumber, InvalidSize, InvalidSpan, InvalidSpans
+from logtrees.errors import (
+    InvalidEntry, InvalidHeight, InvalidNode, InvalidNodes, InvalidNumber, InvalidSize, InvalidSpan, InvalidSpans,
+)
 
 MOST_ENTRIES = 10 ** 30
 MOST_SPANS = 12
+MOST_NODES = 60
+MOST_HEIGHT = 30
 
 
 def is_whole(value):
@@ -78,6 +82,15 @@ def check_spans(size, spans):
         behind = span[1]
 
 
+def check_nodes(size, nodes, least=1, most=MOST_NODES):
+    """Raise InvalidNodes unless the value is a list of so many nodes of the tree of a valid size."""
+    if not is_list_of(nodes, least, most):
+        raise InvalidNodes(None)
+    for item, node in enumerate(nodes):
+        if not is_tree_node(size, node):
+            raise InvalidNodes(item)
+
+
 def check_older(size, older):
     """Raise InvalidSize unless the value is a size that a log with a valid size has had, the present one included."""
     if not is_between(older, 1, size):
@@ -88,3 +101,21 @@ def check_number(number):
     """Raise InvalidNumber unless the value is an integer."""
     if not is_whole(number):
         raise InvalidNumber("a number is an integer")
+
+
+def check_number_from(number, least):
+    """Raise InvalidNumber unless the value is an integer that is at least so great."""
+    if not is_whole(number) or number < least:
+        raise InvalidNumber(f"a number here is an integer from {least}")
+
+
+def check_number_between(number, least, most):
+    """Raise InvalidNumber unless the value is an integer between two bounds or one of them."""
+    if not is_between(number, least, most):
+        raise InvalidNumber(f"a number here is an integer from {least} to {most}")
+
+
+def check_height(height):
+    """Raise InvalidHeight unless the value is a height of tiles."""
+    if not is_between(height, 1, MOST_HEIGHT):
+        raise InvalidHeight("a height of tiles is an integer from 1 to 30")

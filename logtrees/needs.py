@@ -2,21 +2,15 @@
 
 from logtrees.checks import check_size, check_spans
 from logtrees.depths import depth_sum
-from logtrees.shapes import nodes_within
+from logtrees.shapes import nodes_beside
 
 
 def needed(size, spans):
     """List the nodes without entries of spans whose parent has some, ascending."""
     check_size(size)
     check_spans(size, spans)
-    found = []
-    behind = 0
     # A needed node lies beside the spans, its parent does not: so it is one of the greatest there.
-    for first, end in spans:
-        found.extend(nodes_within(size, behind, first))
-        behind = end
-    found.extend(nodes_within(size, behind, size))
-    return found
+    return nodes_beside(size, spans)
 
 
 def needed_count(size, spans):

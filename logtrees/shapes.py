@@ -31,6 +31,17 @@ def nodes_within(size, begin, end):
     return found
 
 
+def nodes_beside(size, stretches):
+    """List the greatest nodes of tree(size) without entries of some stretches, which may overlap, ascending."""
+    found = []
+    behind = 0
+    for begin, end in sorted(stretches):
+        found.extend(nodes_within(size, behind, begin))
+        behind = max(behind, end)
+    found.extend(nodes_within(size, behind, size))
+    return found
+
+
 def peaks(size):
     """List the nodes that one gets by cutting the entries into the powers of two of the size, the greatest first."""
     check_size(size)

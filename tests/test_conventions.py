@@ -4,83 +4,14 @@ import copy
 import inspect
 import unittest
 
-from logtrees import compact, depths, needs, older, shapes
+from logtrees import compact, depths, known, live, needs, older, papers, shapes, texts, tiles, work
 from logtrees.errors import (
-    InvalidBounds, InvalidEntry, InvalidNode, InvalidNumber, InvalidSize, InvalidSpan, InvalidSpans, LogError,
+    InvalidBounds, InvalidEntry, InvalidHeight, InvalidNode, InvalidNodes, InvalidNumber, InvalidSize, InvalidSpan,
+    InvalidSpans, LogError,
 )
-from tests.plain import FAR_INTEGERS, GREAT, MOST, NO_INTEGERS, NO_SIZES, marked_entries, no_nodes, plain_tree
-from tests.wrong_lists import WRONG_BOUNDS, WRONG_SPANS
-
-NO_ENTRIES = NO_INTEGERS + FAR_INTEGERS + [7, 8]
-NO_ENDS = NO_INTEGERS + FAR_INTEGERS + [8, 9, 3, 2, 0]
-NO_OLDER = NO_SIZES + [8, 9]
-NO_BEGINS = NO_INTEGERS + FAR_INTEGERS + [11, 12, MOST]
-NO_FAR_ENDS = NO_INTEGERS + FAR_INTEGERS + [0, 2, 3]
-NO_SPANS = [value for value, _ in WRONG_SPANS]
-NO_BOUNDS = [value for value, _ in WRONG_BOUNDS]
-
-# Each function with right arguments, and for each parameter that has an error the error and wrong values.
-CALLS = [
-    (shapes.peaks, (7,), [(InvalidSize, NO_SIZES)]),
-    (shapes.edges, (7,), [(InvalidSize, NO_SIZES)]),
-    (shapes.is_node, (7, (4, 7)), [(InvalidSize, NO_SIZES)]),
-    (shapes.halves, (7, (4, 7)), [(InvalidSize, NO_SIZES), (InvalidNode, no_nodes(7))]),
-    (shapes.parent, (7, (4, 7)), [(InvalidSize, NO_SIZES), (InvalidNode, no_nodes(7))]),
-    (shapes.sibling, (7, (4, 7)), [(InvalidSize, NO_SIZES), (InvalidNode, no_nodes(7))]),
-    (shapes.node_count, (7,), [(InvalidSize, NO_SIZES)]),
-    (shapes.common_count, (7, 5), [(InvalidSize, NO_SIZES), (InvalidSize, NO_SIZES)]),
-    (shapes.height_count, (7, 1), [(InvalidSize, NO_SIZES), (InvalidNumber, NO_INTEGERS)]),
-    (depths.depth, (7, 5), [(InvalidSize, NO_SIZES), (InvalidEntry, NO_ENTRIES)]),
-    (depths.path, (7, 5), [(InvalidSize, NO_SIZES), (InvalidEntry, NO_ENTRIES)]),
-    (depths.depth_sum, (7, 3, 6), [(InvalidSize, NO_SIZES), (InvalidSpan, NO_ENTRIES), (InvalidSpan, NO_ENDS)]),
-    (depths.depth_range, (7, 3, 6), [(InvalidSize, NO_SIZES), (InvalidSpan, NO_ENTRIES), (InvalidSpan, NO_ENDS)]),
-    (depths.first_of_depth, (7, 2), [(InvalidSize, NO_SIZES), (InvalidNumber, NO_INTEGERS)]),
-    (depths.sizes_with, (5, 3, 20), [
-        (InvalidEntry, NO_INTEGERS + FAR_INTEGERS + [MOST]), (InvalidNumber, NO_INTEGERS), (InvalidSize, NO_SIZES),
-    ]),
-    (needs.needed, (7, [(2, 3), (5, 6)]), [(InvalidSize, NO_SIZES), (InvalidSpans, NO_SPANS)]),
-    (needs.needed_count, (7, [(2, 3), (5, 6)]), [(InvalidSize, NO_SIZES), (InvalidSpans, NO_SPANS)]),
-    (needs.needed_both, (7, [(2, 3)], [(0, 1), (5, 6)]), [
-        (InvalidSize, NO_SIZES), (InvalidSpans, NO_SPANS), (InvalidSpans, NO_SPANS),
-    ]),
-    (needs.spared, (7, [(2, 3), (5, 6)]), [(InvalidSize, NO_SIZES), (InvalidSpans, NO_SPANS)]),
-    (older.older_list, (7, 3), [(InvalidSize, NO_SIZES), (InvalidSize, NO_OLDER)]),
-    (older.older_count, (7, 3), [(InvalidSize, NO_SIZES), (InvalidSize, NO_OLDER)]),
-    (older.longest_older, (7,), [(InvalidSize, NO_SIZES)]),
-    (compact.compact, (3, 11), [(InvalidSpan, NO_BEGINS), (InvalidSpan, NO_FAR_ENDS)]),
-    (compact.compact_count, (3, 11), [(InvalidSpan, NO_BEGINS), (InvalidSpan, NO_FAR_ENDS)]),
-    (compact.greatest, (3, 11), [(InvalidSpan, NO_BEGINS), (InvalidSpan, NO_FAR_ENDS)]),
-    (compact.join_sums, ([3, 11, 12],), [(InvalidBounds, NO_BOUNDS)]),
-]
-
-# The functions that take lists, each with right arguments, the place of a list, and wrong values with their items.
-LISTS = [
-    (needs.needed, (7, [(2, 3)]), 1, WRONG_SPANS), (needs.needed_count, (7, [(2, 3)]), 1, WRONG_SPANS),
-    (needs.needed_both, (7, [(2, 3)], [(5, 6)]), 1, WRONG_SPANS), (needs.spared, (7, [(2, 3)]), 1, WRONG_SPANS),
-    (needs.needed_both, (7, [(2, 3)], [(5, 6)]), 2, WRONG_SPANS), (compact.join_sums, ([3, 11],), 0, WRONG_BOUNDS),
-]
-
-PARAMETERS = {
-    shapes: {
-        "peaks": ["size"], "edges": ["size"], "is_node": ["size", "value"], "halves": ["size", "node"],
-        "parent": ["size", "node"], "sibling": ["size", "node"], "node_count": ["size"],
-        "common_count": ["size", "other"], "height_count": ["size", "number"],
-    },
-    depths: {
-        "depth": ["size", "entry"], "path": ["size", "entry"], "depth_sum": ["size", "begin", "end"],
-        "depth_range": ["size", "begin", "end"], "first_of_depth": ["size", "number"],
-        "sizes_with": ["entry", "number", "most"],
-    },
-    needs: {
-        "needed": ["size", "spans"], "needed_count": ["size", "spans"], "needed_both": ["size", "spans", "others"],
-        "spared": ["size", "spans"],
-    },
-    older: {"older_list": ["size", "older"], "older_count": ["size", "older"], "longest_older": ["size"]},
-    compact: {
-        "compact": ["begin", "end"], "compact_count": ["begin", "end"], "greatest": ["begin", "end"],
-        "join_sums": ["bounds"],
-    },
-}
+from tests.calls import CALLS, CLASSES, LISTS, PARAMETERS
+from tests.plain import GREAT, MOST, marked_entries, no_nodes, plain_tree
+from tests.wrong_lists import NODES, WRONG_BOUNDS, WRONG_SPANS
 
 
 class WrongValuesTest(unittest.TestCase):
@@ -156,7 +87,6 @@ class WrongValuesTest(unittest.TestCase):
         self.check(depths.sizes_with, (0, 0, 0), InvalidSize)
         self.check(depths.sizes_with, (0, 0, MOST + 1), InvalidSize)
 
-
     def test_older_sizes_at_their_ends(self):
         for size in [*range(1, 20), *GREAT]:
             for function in (older.older_list, older.older_count):
@@ -172,6 +102,39 @@ class WrongValuesTest(unittest.TestCase):
                 self.check(function, (begin, end), InvalidSpan)
 
 
+    def test_heights_at_their_ends(self):
+        for size in (1, 7, MOST):
+            for function, more in ((tiles.tile_count, ()), (tiles.tile_width, (0, 0)), (tiles.changed_tiles, (1,)),
+                                   (tiles.tiles_of, ([(0, 1)],))):
+                function(size, 1, *more), function(size, 30, *more)
+                for height in (0, -1, 31, 100):
+                    self.check(function, (size, height, *more), InvalidHeight)
+
+    def test_numbers_at_their_ends(self):
+        for size in [*range(1, 20), *GREAT]:
+            work.append_sums(size, 0), work.append_sums(size, MOST - size)
+            tiles.tile_width(size, 1, 0, 0), tiles.tile_width(size, 30, 10 ** 99, 10 ** 99)
+            for number in (-1, MOST - size + 1, MOST + 1):
+                self.check(work.append_sums, (size, number), InvalidNumber)
+            for step in (1, 2, 3, 10 ** 15, MOST - size + 1, 10 ** 99, 10 ** 999):
+                most = (MOST - size) // step
+                work.roots_by_steps(size, step, 0), work.roots_by_steps(size, step, most)
+                for number in (-1, most + 1, MOST + 1):
+                    self.check(work.roots_by_steps, (size, step, number), InvalidNumber)
+            for step in (0, -1, -size):
+                self.check(work.roots_by_steps, (size, step, 0), InvalidNumber)
+            for level, number in ((-1, 0), (0, -1), (-1, -1), (-(10 ** 99), 0), (0, -(10 ** 99))):
+                self.check(tiles.tile_width, (size, 8, level, number), InvalidNumber)
+
+    def test_stretches_of_sizes_at_their_ends(self):
+        for function in (work.roots_total, work.cheapest, work.costliest):
+            for size in [*range(1, 20), *GREAT]:
+                function(size, size), function(1, size), function(size, MOST)
+                wrong = [(0, size), (-1, size), (size, MOST + 1), (size, 0), (size, -size), (size + 1, size), (0, 0)]
+                for low, high in wrong + [(MOST + 1, MOST + 1), (MOST + 1, size), (2 * size, size)]:
+                    self.check(function, (low, high), InvalidSize)
+
+
 class WrongListsTest(unittest.TestCase):
     def check(self, function, arguments, kind, item):
         """Expect an error of exactly one class with a field, and that the arguments stay as they were."""
@@ -184,7 +147,7 @@ class WrongListsTest(unittest.TestCase):
 
     def test_the_first_wrong_item(self):
         for function, arguments, place, values in LISTS:
-            kind = InvalidBounds if values is WRONG_BOUNDS else InvalidSpans
+            kind = InvalidBounds if values is WRONG_BOUNDS else InvalidSpans if values is WRONG_SPANS else InvalidNodes
             for value, item in values:
                 self.check(function, (*arguments[:place], value, *arguments[place + 1:]), kind, item)
 
@@ -238,13 +201,64 @@ class WrongListsTest(unittest.TestCase):
         self.check(compact.join_sums, ([*bounds[:6], bounds[7], bounds[6], *bounds[8:]],), InvalidBounds, 7)
 
 
+    def test_how_many_nodes(self):
+        nodes = shapes.peaks(2 ** 80 - 1)[:61]
+        size = 2 ** 80 - 1
+        for function, ahead in ((tiles.tiles_of, (size, 4)), (known.gives_root, (size,)), (known.known_tops, (size,)),
+                                (known.missing, (size,)), (known.needless, (size,)),
+                                (papers.serves, (size, [(0, 1)])), (papers.first_wrong, (size, [(0, 1)])),
+                                (papers.lacking, (size, [(0, 1)]))):
+            function(*ahead, nodes[:1]), function(*ahead, nodes[:60])
+            for given in ([], nodes, nodes * 3, [None] * 61):
+                self.check(function, (*ahead, given), InvalidNodes, None)
+
+    def test_nodes_of_other_trees(self):
+        for size in range(1, 14):
+            tree = plain_tree(size)
+            for other in range(1, 17):
+                for node in plain_tree(other):
+                    given = [(0, size), (0, 1), node, (0, other)]
+                    if node in tree:
+                        known.missing(size, given[:3])
+                    else:
+                        self.check(known.missing, (size, given), InvalidNodes, 2)
+                        self.check(papers.lacking, (size, [(0, 1)], given), InvalidNodes, 2)
+                        self.check(tiles.tiles_of, (size, 3, given), InvalidNodes, 2)
+
+    def test_the_wrong_node_at_each_place(self):
+        nodes = [(3 * place, 3 * place + 1) for place in range(60)]
+        for place in range(60):
+            for wrong in (None, [3, 4], (1, 3), (True, 2), (0, MOST + 1), (2 ** 99 + 1, MOST)):
+                given = [*nodes[:place], wrong, *nodes[place + 1:]]
+                for function in (known.gives_root, known.known_tops, known.missing, known.needless):
+                    self.check(function, (MOST, given), InvalidNodes, place)
+                    self.check(function, (MOST, [*given[:place + 1], *[0] * (59 - place)]), InvalidNodes, place)
+
+    def test_spans_go_ahead_of_nodes(self):
+        for function in (papers.serves, papers.first_wrong, papers.lacking):
+            for value, item in WRONG_SPANS[::7]:
+                for nodes in (None, [], [None], [(0, 8)], NODES):
+                    self.check(function, (7, value, nodes), InvalidSpans, item)
+
+    def test_any_value_is_shown(self):
+        for value in (None, [], (), [None], 7, True, "0-4", NODES, [(0, 8)] * 4000):
+            for size in (0, None, MOST + 1):
+                with self.assertRaises(InvalidSize):
+                    papers.shows_needed(size, [(0, 1)], value)
+            self.check(papers.shows_needed, (7, [(0, 1), (0, 1)], value), InvalidSpans, 1)
+
+
 class ListsTest(unittest.TestCase):
     def test_each_returned_list_is_a_new_one(self):
         calls = [(shapes.peaks, (7,)), (shapes.edges, (7,)), (shapes.edges, (8,)), (depths.path, (7, 5)),
                  (depths.path, (1, 0)), (depths.sizes_with, (5, 3, 20)), (depths.sizes_with, (5, 3, 5)),
                  (needs.needed, (7, [(2, 3)])), (needs.needed, (7, [(0, 7)])), (older.older_list, (7, 3)),
                  (older.older_list, (7, 7)), (older.older_list, (7, 4)), (compact.compact, (3, 11)),
-                 (compact.compact, (0, 8))]
+                 (compact.compact, (0, 8)), (tiles.tiles_of, (7, 2, [(0, 7)])), (known.known_tops, (7, NODES)),
+                 (known.missing, (7, [(2, 3)])), (known.missing, (7, NODES)), (known.needless, (7, NODES)),
+                 (known.needless, (7, [(0, 4)])), (papers.lacking, (7, [(5, 6)], [(0, 2)])),
+                 (papers.lacking, (7, [(0, 7)], NODES)), (texts.read_nodes, (7, "0-4, 4-7")),
+                 (texts.read_nodes, (7, ""))]
         for function, arguments in calls:
             first = function(*arguments)
             kept = copy.deepcopy(first)
@@ -260,6 +274,16 @@ class ListsTest(unittest.TestCase):
                 nodes += needs.needed(size, [(entry, entry + 1)]) + older.older_list(size, entry + 1)
                 nodes += compact.compact(entry, size) + [compact.greatest(entry, size)]
                 self.assertTrue(all(node.__class__ is tuple and len(node) == 2 for node in nodes))
+                nodes += known.known_tops(size, nodes[:60]) + known.missing(size, [(entry, entry + 1)])
+                nodes += papers.lacking(size, [(entry, entry + 1)], [(0, 1)]) + tiles.tiles_of(size, 2, [(0, size)])
+                nodes += texts.read_nodes(size, f"{entry}-{entry + 1}, 0-{size}")
+                self.assertTrue(all(node.__class__ is tuple and len(node) == 2 for node in nodes))
+            for pair in (work.cheapest(1, size), work.costliest(1, size), tiles.tile_count(size, 3)):
+                self.assertEqual((pair.__class__, len(pair)), (tuple, 2))
+            for told in (known.gives_root(size, [(0, 1)]), papers.serves(size, [(0, 1)], [(0, 1)]),
+                         papers.shows_needed(size, [(0, 1)], [])):
+                self.assertIs(told.__class__, bool)
+            self.assertIs(texts.show_nodes(size, []).__class__, str)
             self.assertIs(shapes.node_count(size).__class__, tuple)
             self.assertIs(older.longest_older(size).__class__, tuple)
             self.assertIs(depths.depth_range(size, 0, size).__class__, tuple)
@@ -279,6 +303,17 @@ class InterfaceTest(unittest.TestCase):
                     function = getattr(module, name)
                     self.assertEqual(function.__module__, module.__name__)
                     self.assertEqual(list(inspect.signature(function).parameters), parameters)
+
+    def test_classes(self):
+        for kind, methods in CLASSES.items():
+            for name, parameters in methods.items():
+                with self.subTest(kind=kind.__name__, name=name):
+                    told = vars(kind)[name]
+                    if parameters is None:
+                        self.assertIsInstance(told, property)
+                    else:
+                        self.assertEqual(list(inspect.signature(told).parameters), ["self", *parameters])
+        self.assertTrue(issubclass(live.BudgetLog, live.LiveLog))
 
 
 if __name__ == "__main__":

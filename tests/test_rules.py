@@ -10,13 +10,13 @@ PACKAGE = ROOT / "logtrees"
 
 BUILTINS = """
     len range enumerate zip min max sum abs sorted reversed int str bool bytes list tuple dict set isinstance ord repr
-    any all divmod super Exception ValueError TypeError KeyError IndexError LookupError ZeroDivisionError
+    any all divmod super property Exception ValueError TypeError KeyError IndexError LookupError ZeroDivisionError
 """.split()
 
 METHODS = """
     append clear copy count endswith extend find get index insert isalnum isalpha isdigit islower isspace isupper items
     join keys ljust lower lstrip partition pop remove replace reverse rfind rjust rpartition rsplit rstrip setdefault
-    split splitlines startswith strip update upper values zfill bit_length __init__
+    split splitlines startswith strip update upper values zfill bit_length isascii __init__
 """.split()
 
 
@@ -59,13 +59,15 @@ class RulesTest(unittest.TestCase):
                         self.assertIn(alias.name, there, name)
 
     def test_builtins_and_methods(self):
+        classes = [part for _, tree in trees() for part in tree.body if isinstance(part, ast.ClassDef)]
+        own = [part.name for kind in classes for part in kind.body if isinstance(part, ast.FunctionDef)]
         for name, tree in trees():
             for node in ast.walk(tree):
                 if isinstance(node, ast.Name) and hasattr(builtins, node.id):
                     self.assertIn(node.id, BUILTINS, (name, node.lineno))
                     self.assertIsInstance(node.ctx, ast.Load, (name, node.lineno))
                 if isinstance(node, ast.Call) and isinstance(node.func, ast.Attribute):
-                    self.assertIn(node.func.attr, METHODS, (name, node.lineno))
+                    self.assertIn(node.func.attr, METHODS + own, (name, node.lineno))
 
     def test_no_floats_and_no_division(self):
         for name, tree in trees():
@@ -73,6 +75,28 @@ class RulesTest(unittest.TestCase):
                 self.assertNotIsInstance(node, (ast.Div, ast.Global, ast.AsyncFunctionDef), name)
                 self.assertFalse(isinstance(node, ast.Constant) and isinstance(node.value, float), name)
                 self.assertFalse(isinstance(node, ast.Constant) and "%" in str(node.value), name)
+
+    def test_decorators_and_caught_errors(self):
+        for name, tree in trees():
+            for node in ast.walk(tree):
+                self.assertNotIsInstance(node, ast.Try, name)
+                for decorator in getattr(node, "decorator_list", []):
+                    self.assertEqual(getattr(decorator, "id", None), "property", (name, node.name))
+
+    def test_no_two_files_import_from_each_other(self):
+        reached = {}
+        for name, tree in trees():
+            sources = [node.module for node in ast.walk(tree) if isinstance(node, ast.ImportFrom)]
+            reached[name] = {source.rpartition(".")[2] + ".py" for source in sources}
+        for _ in reached:
+            reached = {name: there.union(*[reached[other] for other in there]) for name, there in reached.items()}
+        self.assertEqual([name for name, there in reached.items() if name in there], [])
+
+    def test_equal_objects_are_asked_for_their_class_first(self):
+        for name, tree in trees():
+            for node in ast.walk(tree):
+                if isinstance(node, ast.FunctionDef) and node.name == "__eq__":
+                    self.assertTrue(ast.unparse(node.body[0]).startswith("if not isinstance(other, "), name)
 
     def test_no_local_name_hides_an_import_or_a_function(self):
         for name, tree in trees():

@@ -1,6 +1,6 @@
-"""Values that are no lists of spans or bounds, each one with the index of the first item that is wrong, or None."""
+"""Values that are no lists of spans, bounds or nodes and no texts, with the index of what is wrong first, or None."""
 
-from tests.plain import FAR_INTEGERS, MOST, NO_INTEGERS
+from tests.plain import FAR_INTEGERS, MOST, NO_INTEGERS, no_nodes
 
 NO_LISTS = [value for value in NO_INTEGERS if not isinstance(value, list)] + FAR_INTEGERS + [0, 1, 7, "0-1", "[(0, 1)]"]
 
@@ -55,5 +55,44 @@ def wrong_bounds():
     return found + UNORDERED_BOUNDS
 
 
+# No items of a list of nodes of tree(7), wherever they stand; some of them are nodes of other trees.
+NO_NODES = no_nodes(7) + [
+    (0, 3), (1, 3), (2, 5), (3, 5), (5, 7), (4, 8), (6, 8), (0, 8), (0, 6), (0, 5), (7, 8), (2, 7),
+]
+
+NODES = [(0, 4), (4, 7), (6, 7), (2, 3), (0, 4), (0, 7)]
+
+
+def wrong_nodes():
+    """List (value, item) for values that are no lists of nodes of tree(7)."""
+    found = [(value, None) for value in NO_LISTS]
+    found += [(((0, 4),), None), (((0, 4), (4, 7)), None), ({(0, 4): 0}, None), ({0: (0, 4)}, None), ("0-4", None)]
+    for wrong in NO_NODES:
+        found += [([wrong], 0), ([wrong, *NODES], 0), ([*NODES, wrong], 6), ([*NODES[:3], wrong, *NODES[3:]], 3)]
+        found += [([wrong, wrong], 0), ([*NODES[:2], wrong, None, (0, 8)], 2), ([*NODES * 9, wrong, *NODES[:5]], 54)]
+    return found
+
+
+# Words that have not the form of a node's text, whatever the tree.
+NO_FORMS = [
+    " ", "-", "0", "4", "04", "0 4", "0-", "-4", "--4", "0--4", "0-4-", "-0-4", "0-4-7", "+0-4", "0-+4", "0-04", "00-4",
+    "000-4", "0-4 ", " 0-4", "0 -4", "0- 4", "0-4,", ",0-4", "0-4;4-7", "0-4,4-7", "0,4", "(0,4)",
+    "(0-4)", "0:4", "0_0-4", "0-0_4", "0-4.0", "0.0-4", "0x0-4", "0-0x4", "0-4e0", "a-b", "zero-four", "none", "None",
+    "0\n-4", "0-4\n", "\n0-4", "\n", "0-4\t", "\t0-4", "0\u20134", "0\u22124", "\u0660-4", "0-\u0664", "0-\uff14",
+    "\u00b2-3", "2-\u00b3", "0-4\u00a0", "\u2070-4", "\ud800-4", "0-\u2463", "0-\u0be4", "0" * 100 + "-4",
+    "0-" + "0" * 99 + "4", "0-" + "4" * 101, "0" * 9000 + "-4", "9" * 9000, f"0-{10 ** 100}", f"0-{10 ** 999}",
+    f"{10 ** 100}-{10 ** 100 + 1}", "0-" + "9" * 101,
+]
+
+# Words of that form that are the texts of no node of tree(7).
+NO_NODE_TEXTS = [
+    "0-8", "4-8", "7-8", "0-0", "4-4", "4-0", "7-0", "0-3", "1-3", "2-5", "5-7", "0-5", "0-6", "2-7", "0-" + "4" * 100,
+    f"0-{10 ** 30}", f"0-{10 ** 99}", f"{10 ** 99}-{10 ** 99 + 1}", "0-" + "9" * 100, "9" * 100 + "-7",
+]
+
 WRONG_SPANS = wrong_spans()
 WRONG_BOUNDS = wrong_bounds()
+WRONG_NODES = wrong_nodes()
+# Too few and too many nodes for all functions that take some, but not for texts of nodes.
+WRONG_COUNTS = [([], None), ([(0, 4)] * 61, None), ([(0, 1)] * 4000, None), ([None] * 61, None), ([(0, 8)] * 61, None)]
+WRONG_PARTS = NO_FORMS + NO_NODE_TEXTS
